@@ -1,0 +1,1 @@
+"""Meanrings: rings of the least mean."""

@@ -28,3 +28,27 @@ def fraction_of(top, bottom):
 def fraction_less(one, other):
     """Whether one fraction is less than the other one."""
     return one[0] * other[1] < other[0] * one[1]
+
+
+def is_fraction(thing):
+    """Whether a thing is a fraction."""
+    if not isinstance(thing, tuple) or len(thing) != 2:
+        return False
+    top, bottom = thing
+    if not is_whole(top) or not is_whole(bottom) or bottom < 1:
+        return False
+    return greatest_divisor(abs(top), bottom) == 1
+
+
+def least_fraction(fractions):
+    """The least fraction of a list, None where it has none."""
+    least = None
+    for fraction in fractions:
+        if least is None or fraction_less(fraction, least):
+            least = fraction
+    return least
+
+
+def none_below(fractions, bound):
+    """Whether no fraction of a list is less than the bound."""
+    return not any([fraction_less(fraction, bound) for fraction in fractions])

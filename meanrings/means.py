@@ -1,6 +1,6 @@
 """The least mean of all rings of a web, and rings that have it."""
 
-from meanrings.basics import fraction_less, fraction_of
+from meanrings.basics import fraction_less, fraction_of, least_fraction
 from meanrings.webs import groups_of, ring_mean, rings_of
 from meanrings.ways import rows_led
 
@@ -25,13 +25,7 @@ def steepest_mean(rows, place):
 def least_mean(web):
     """The least mean of all rings, None where there is none."""
     rows = mean_rows(web)
-    least = None
-    for place in range(web[0]):
-        if rows[web[0]][place] is not None:
-            mean = steepest_mean(rows, place)
-            if least is None or fraction_less(mean, least):
-                least = mean
-    return least
+    return least_fraction([steepest_mean(rows, place) for place in range(web[0]) if rows[web[0]][place] is not None])
 
 
 def greatest_mean(web):
@@ -46,10 +40,14 @@ def costs_over(web, mean):
     return (web[0], tuple([(one, other, worth * bottom - top) for one, other, worth in web[1]]))
 
 
+def least_by_places(rows):
+    """The least number that each place has in some row, None where it has none."""
+    return [min([number for number in column if number is not None], default=None) for column in zip(*rows)]
+
+
 def tight_part(costs):
     """The web of the arrows that lie on ways of the least worth, where no ring has one below 0."""
-    rows = mean_rows(costs)
-    least = [min([row[place] for row in rows if row[place] is not None]) for place in range(costs[0])]
+    least = least_by_places(mean_rows(costs))
     return (costs[0], tuple([
         (one, other, worth) for one, other, worth in costs[1] if least[one] + worth == least[other]
     ]))

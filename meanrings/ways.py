@@ -140,7 +140,7 @@ def bounding_rows(web, place, k):
     return tuple([tuple(row) for row in rows_led(web, still_row(web[0], place), k)])
 
 
-def bounds_good(web, thing):
+def row_good(web, thing):
     """Whether a thing is a row with a whole number or None for each place."""
     if not isinstance(thing, tuple) or len(thing) != web[0]:
         return False
@@ -160,7 +160,7 @@ def rows_bound(web, place, thing):
     check_place(web, place)
     if not isinstance(thing, tuple) or len(thing) == 0:
         return False
-    if not all(bounds_good(web, row) for row in thing):
+    if not all(row_good(web, row) for row in thing):
         return False
     start = thing[0][place]
     if start is None or start > 0:

@@ -1,6 +1,7 @@
 """What the tests share: things of every kind, made webs, and slow answers got by going through all."""
 
 import itertools
+import math
 import random
 from fractions import Fraction
 
@@ -84,6 +85,18 @@ def slow_mean(web, ring):
     return Fraction(worth_gone(web, ring + ring[:1]), len(ring))
 
 
+def quick_rings(web, begun=None):
+    """All rings, rising, place by place: for webs that are too great for slow_rings."""
+    if begun is None:
+        return [ring for place in range(web[0]) for ring in quick_rings(web, (place,))]
+    worths = worth_table(web)
+    rings = [begun] if (begun[-1], begun[0]) in worths else []
+    for other in range(begun[0] + 1, web[0]):
+        if other not in begun and (begun[-1], other) in worths:
+            rings.extend(quick_rings(web, begun + (other,)))
+    return rings
+
+
 def as_pair(number):
     return None if number is None else (number.numerator, number.denominator)
 
@@ -131,6 +144,67 @@ def turned(web):
 def circle(many, worths):
     """The web of one ring through all places."""
     return (many, tuple(sorted((at, (at + 1) % many, worths[at]) for at in range(many))))
+
+
+def is_pair(thing):
+    """Whether a thing is a fraction."""
+    return (
+        isinstance(thing, tuple) and len(thing) == 2 and is_whole(thing[0]) and is_whole(thing[1])
+        and thing[1] >= 1 and math.gcd(*thing) == 1
+    )
+
+
+def is_numbers(web, thing):
+    return isinstance(thing, tuple) and len(thing) == web[0] and all(is_pair(part) for part in thing)
+
+
+def slow_comes(web, numbers):
+    """What each arrow's worth and its one's number, less its other's, come to."""
+    return [worth + Fraction(*numbers[one]) - Fraction(*numbers[other]) for one, other, worth in web[1]]
+
+
+def little(bound):
+    """A bound a little above a fraction, and one a little below it."""
+    step = Fraction(1, 10 ** 9 + 7)
+    return (as_pair(Fraction(*bound) + step), as_pair(Fraction(*bound) - step))
+
+
+def made_numbers(source, many, most=20):
+    return tuple(as_pair(Fraction(source.randint(-most, most), source.randint(1, 6))) for place in range(many))
+
+
+def put(things, at, thing):
+    """The tuple with another thing at a place."""
+    return things[:at] + (thing,) + things[at + 1:]
+
+
+NO_FRACTIONS = [
+    (2, 4), (-2, 2), (0, 2), (0, 0), (1, 0), (1, -1), (-1, -1), (0, -1), (10 ** 99, 10 ** 98), (True, 1), (1, True),
+    (False, 1), (0, True), (0, 1, 1), (0,), (), [0, 1], [1, 2], 0, 1, -5, True, False, None, "0", "01", "0/1",
+    (None, 1), (1, None), ("1", 1), (1, "1"), ((0, 1), 1), (1, (0, 1)), ([0], 1), (1, {}), {0: 1}, {0: 0, 1: 1},
+    ((0, 1), (0, 1)),
+]
+
+
+def bent_numbers(numbers):
+    """Things that are no numbers: each place bent, one fewer or more, and other things all over."""
+    bent = [put(numbers, at, part) for at in range(len(numbers)) for part in NO_FRACTIONS + odd_things()]
+    bent.extend([numbers[:-1], numbers[1:], numbers + ((0, 1),), ((0, 1),) + numbers, list(numbers), (numbers,)])
+    bent.extend([put(numbers, at, list(numbers[at])) for at in range(len(numbers))])
+    bent.extend([put(numbers, at, numbers[at] + (1,)) for at in range(len(numbers))])
+    bent.append({place: number for place, number in enumerate(numbers)})
+    return bent + odd_things()
+
+
+def bent_papers(ring, numbers):
+    """Things that are no papers, made of the ring and the numbers of one."""
+    bent = [(ring, thing) for thing in bent_numbers(numbers)]
+    for thing in odd_things():
+        bent.extend([thing, (thing, numbers), (thing, thing), (ring, numbers, thing), (thing, ring, numbers)])
+        if not (is_whole(thing) and thing == ring[0]):
+            bent.append((put(ring, 0, thing), numbers))
+    bent.extend([ring, numbers, (ring,), (numbers,), (numbers, ring), [ring, numbers], {0: ring, 1: numbers}])
+    return bent + [(list(ring), numbers), ((ring, numbers),)]
 
 
 def raised(act):

@@ -4,7 +4,7 @@ import copy
 import unittest
 
 from material import made_webs, raised
-from meanrings import means, ways, webs
+from meanrings import means, ratios, rows, shows, tight, ways, webs
 
 
 def questions(web):
@@ -21,6 +21,47 @@ def questions(web):
     ]
     for ask in (ways.least_way, ways.least_upto, ways.first_way):
         asks.extend([(ask, web, 0, last, k) for k in (0, 1, 40)])
+    return asks + questions_of_bounds(web) + questions_of_ratios(web) + questions_of_rows(web)
+
+
+def questions_of_bounds(web):
+    last = web[0] - 1
+    numbers = tuple((place, 3 * place + 1) for place in range(web[0]))
+    asks = [(shows.bound_of, web, numbers), (shows.mean_paper, web), (shows.mean_paper_good, web, ((0,), numbers))]
+    for bound in ((-4, 1), (1, 3), (5, 1)):
+        asks.extend([
+            (shows.shows_good, web, bound, numbers), (shows.shows_good, web, bound, [list(numbers)]),
+            (shows.shows_for, web, bound), (shows.ring_under, web, bound), (shows.far_numbers, web, bound, last),
+        ])
+    asks.extend([(tight.tight_arrows, web, told) for told in (numbers, shows.shows_for(web, (-4, 1)))])
+    asks.extend([(ask, web) for ask in (tight.core_places, tight.core_arrows, tight.core_groups, shows.mean_paper)])
+    paper = shows.mean_paper(web)
+    if paper is not None:
+        asks.extend([(tight.tight_arrows, web, paper[1]), (shows.mean_paper_good, web, paper)])
+    return asks
+
+
+def questions_of_ratios(web):
+    numbers = tuple((place, 3 * place + 1) for place in range(web[0]))
+    asks = []
+    for spans in (tuple(range(1, len(web[1]) + 1)), list(range(len(web[1])))):
+        asks.extend([
+            (ratios.ring_ratio, web, spans, (0,)), (ratios.least_ratio, web, spans), (ratios.ratio_ring, web, spans),
+            (ratios.ratios_of, web, spans), (ratios.ratio_shows_good, web, spans, (-1, 2), numbers),
+            (ratios.ratio_shows_for, web, spans, (-4, 1)), (ratios.ratio_bound_of, web, spans, numbers),
+            (ratios.ratio_paper_good, web, spans, ((0,), numbers)), (ratios.ratio_paper, web, spans),
+        ])
+    return asks
+
+
+def questions_of_rows(web):
+    asks = []
+    for row in ((0,) * web[0], (None,) * web[0], (None,) * (web[0] - 1) + (7,), [0] * web[0]):
+        asks.extend([
+            (rows.row_led, web, row), (rows.row_far, web, row, 0), (rows.row_far, web, row, 10 ** 18),
+            (rows.round_good, web, row, (5, 6, 0)), (rows.round_good, web, row, [5, 6, 0]),
+            (rows.round_of, web, row, 20),
+        ])
     return asks
 
 
@@ -65,6 +106,57 @@ class Answers(unittest.TestCase):
                 self.assertIs(means.no_less(web, means.greatest_mean(web)), alike)
             if way is not None:
                 self.assertEqual(ways.way_worth(web, way), ways.least_way(web, 0, 0, 40))
+
+    def test_shows_may_be_handed_in_again(self):
+        for web in made_webs(113, 40, most=8, worth=10 ** 30):
+            mean = means.least_mean(web)
+            for bound in [(-(10 ** 31), 3)] + ([] if mean is None else [mean]):
+                numbers = shows.shows_for(web, bound)
+                self.assertIs(shows.shows_good(web, bound, numbers), True)
+                reached = shows.bound_of(web, numbers)
+                if reached is not None:
+                    self.assertIs(shows.shows_good(web, reached, numbers), True)
+                    self.assertIs(means.no_less(web, reached), True)
+                    self.assertIs(shows.shows_good(web, reached, shows.shows_for(web, reached)), True)
+                    self.assertEqual(len(shows.far_numbers(web, reached, 0)), web[0])
+            if mean is not None:
+                ring, numbers = shows.mean_paper(web)
+                self.assertIs(shows.mean_paper_good(web, (ring, numbers)), True)
+                self.assertEqual(webs.ring_mean(web, ring), mean)
+                self.assertLessEqual(set(tight.core_arrows(web)), set(tight.tight_arrows(web, numbers)))
+                core = webs.web_of(web[0], list(tight.core_arrows(web)))
+                self.assertEqual(tight.core_groups(core), tight.core_groups(web))
+                self.assertEqual(means.greatest_mean(core), mean)
+
+    def test_ratios_may_be_handed_in_again(self):
+        for web in made_webs(114, 40, most=8, worth=10 ** 30):
+            spans = tuple(1000 - 7 * at for at in range(len(web[1])))
+            least, paper = ratios.least_ratio(web, spans), ratios.ratio_paper(web, spans)
+            if least is None:
+                continue
+            self.assertEqual(ratios.ring_ratio(web, spans, ratios.ratio_ring(web, spans)), least)
+            self.assertIs(ratios.ratio_paper_good(web, spans, paper), True)
+            self.assertEqual(ratios.ratio_bound_of(web, spans, paper[1]), least)
+            # Numbers that show a bound by spans show some bound without them, too, and that may be asked for.
+            self.assertIs(shows.shows_good(web, shows.bound_of(web, paper[1]), paper[1]), True)
+            self.assertIs(ratios.ratio_shows_good(web, spans, least, ratios.ratio_shows_for(web, spans, least)), True)
+            numbers = shows.shows_for(web, means.least_mean(web))
+            bound = ratios.ratio_bound_of(web, spans, numbers)
+            self.assertIs(ratios.ratio_shows_good(web, spans, bound, numbers), True)
+            self.assertIsNotNone(ratios.ratio_shows_for(web, spans, bound))
+
+    def test_rows_may_be_handed_in_again(self):
+        for web in made_webs(115, 40, most=8, worth=10 ** 30):
+            row = rows.row_far(web, (0,) * web[0], 10 ** 18)
+            far = rows.row_far(web, row, 10 ** 18)
+            self.assertEqual(rows.row_far(web, rows.row_led(web, row), 10 ** 18), rows.row_led(web, far))
+            told = rows.round_of(web, far, 40)
+            if told is not None:
+                self.assertIs(rows.round_good(web, far, told), True)
+            for listed in means.mean_rows(web):
+                self.assertEqual(len(rows.row_led(web, tuple(listed))), web[0])
+            for bounding in ways.bounding_rows(web, 0, 200)[::50]:
+                self.assertEqual(rows.row_far(web, bounding, 1), rows.row_led(web, bounding))
 
 
 if __name__ == "__main__":

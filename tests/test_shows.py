@@ -6,8 +6,8 @@ import unittest
 from fractions import Fraction
 
 from material import (
-    BIG, as_pair, bent_numbers, bent_papers, changed_worths, circle, is_numbers, is_pair, little, made_numbers, made_webs,
-    no_places, put, quick_rings, raised, slow_comes, slow_mean, slow_rings, slow_ways, worth_gone,
+    BIG, as_pair, bent_numbers, bent_papers, changed_worths, circle, is_numbers, is_pair, little, made_numbers,
+    made_webs, no_places, put, quick_rings, raised, slow_comes, slow_mean, slow_rings, slow_ways, worth_gone,
 )
 from meanrings.errors import NoNumber, NoPlace
 from meanrings.means import least_mean

@@ -30,6 +30,11 @@ def fraction_less(one, other):
     return one[0] * other[1] < other[0] * one[1]
 
 
+def fraction_sum(one, other):
+    """What two fractions come to."""
+    return fraction_of(one[0] * other[1] + other[0] * one[1], one[1] * other[1])
+
+
 def is_fraction(thing):
     """Whether a thing is a fraction."""
     if not isinstance(thing, tuple) or len(thing) != 2:

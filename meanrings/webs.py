@@ -14,6 +14,11 @@ def many_good(thing):
     return is_whole_within(thing, 1, MOST_PLACES)
 
 
+def worth_good(thing):
+    """Whether an arrow may have such a worth."""
+    return is_whole_within(thing, -MOST_WORTH, MOST_WORTH)
+
+
 def arrow_good(many, thing):
     """Whether a thing is an arrow between some of so many places."""
     if not isinstance(thing, tuple) or len(thing) != 3:
@@ -21,7 +26,7 @@ def arrow_good(many, thing):
     one, other, worth = thing
     if not is_whole_within(one, 0, many - 1) or not is_whole_within(other, 0, many - 1):
         return False
-    return is_whole_within(worth, -MOST_WORTH, MOST_WORTH)
+    return worth_good(worth)
 
 
 def web_good(thing):

@@ -1,5 +1,6 @@
 """What the tests share: things of every kind, made webs, and slow answers got by going through all."""
 
+import copy
 import itertools
 import math
 import random
@@ -39,8 +40,13 @@ def no_places(many):
 
 def no_steps(most):
     """Odd things, and the numbers just beyond, that are no whole numbers from 0 to most."""
-    things = odd_things() + [most + 1]
-    return [thing for thing in things if not (is_whole(thing) and 0 <= thing <= most)]
+    return no_whole_within(0, most)
+
+
+def no_whole_within(least, most):
+    """Odd things, and the numbers just beyond, that are no whole numbers from least to most."""
+    things = odd_things() + [least - 1, most + 1, -most - 1]
+    return [thing for thing in things if not (is_whole(thing) and least <= thing <= most)]
 
 
 def made_web(source, many, arrows, worth):
@@ -55,6 +61,20 @@ def made_webs(seed, count, least=1, most=6, worth=4, arrows=24):
     return [
         made_web(source, source.randint(least, most), source.randint(0, arrows), worth) for at in range(count)
     ]
+
+
+def leading_webs(seed, count, least=1, most=8, worth=4, arrows=24):
+    """So many webs by a seed with an arrow from each place, from sparse to thick ones."""
+    source = random.Random(seed)
+    webs = []
+    for at in range(count):
+        many = source.randint(least, most)
+        pairs = {(one, source.randrange(many)) for one in range(many)}
+        others = [(one, other) for one in range(many) for other in range(many) if (one, other) not in pairs]
+        more = min(source.randint(0, arrows), 24 - many, len(others))
+        pairs.update(source.sample(others, more))
+        webs.append((many, tuple(sorted((one, other, source.randint(-worth, worth)) for one, other in pairs))))
+    return webs
 
 
 def worth_table(web):
@@ -214,3 +234,11 @@ def raised(act):
     except Exception as error:
         return error
     return None
+
+
+def refusal(ask, *handed):
+    """The class of the error that a question raises; looks that nothing handed in was changed."""
+    kept = copy.deepcopy(handed)
+    error = raised(lambda: ask(*handed))
+    assert repr(handed) == repr(kept), handed
+    return type(error)

@@ -3,8 +3,9 @@
 import copy
 import unittest
 
-from material import made_webs, raised
-from meanrings import means, ratios, rows, shows, tight, ways, webs
+from material import leading_webs, made_webs, raised
+from meanrings import changes, choices, means, ratios, rows, shows, texts, tight, ways, webs
+from meanrings.desk import Desk
 
 
 def questions(web):
@@ -21,7 +22,8 @@ def questions(web):
     ]
     for ask in (ways.least_way, ways.least_upto, ways.first_way):
         asks.extend([(ask, web, 0, last, k) for k in (0, 1, 40)])
-    return asks + questions_of_bounds(web) + questions_of_ratios(web) + questions_of_rows(web)
+    asks.extend(questions_of_bounds(web) + questions_of_ratios(web) + questions_of_rows(web))
+    return asks + questions_of_changes(web) + questions_of_choices(web) + questions_of_texts(web)
 
 
 def questions_of_bounds(web):
@@ -65,6 +67,44 @@ def questions_of_rows(web):
     return asks
 
 
+def questions_of_changes(web):
+    asks = [
+        (changes.scaled_web, web, 7, -2), (changes.scaled_web, web, [7], -2), (changes.shifted_web, web, [5] * web[0]),
+        (changes.shifted_web, web, tuple(range(web[0]))),
+    ]
+    for one in (0, web[0] - 1):
+        asks.extend([(changes.with_arrow, web, one, other, 9) for other in range(web[0])])
+        for ask in (changes.without_arrow, changes.may_fall, changes.mean_without, changes.rise_till):
+            asks.extend([(ask, web, one, other) for other in range(web[0])])
+    return asks
+
+
+def questions_of_choices(web):
+    choice, numbers = (0,) * web[0], ((0, 1),) * web[0]
+    asks = [(ask, web) for ask in (choices.best_means, choices.best_choice, choices.choices_many, choices.best_many)]
+    asks.extend([(ask, web, told) for told in (choice, list(choice)) for ask in (
+        choices.choice_good, choices.choice_rings, choices.choice_means,
+    )])
+    asks.extend([(choices.values_good, web, told) for told in ((numbers, numbers), [list(numbers), [numbers]])])
+    return asks + [(choices.values_of, web)]
+
+
+def questions_of_texts(web):
+    text = texts.web_shown(web)
+    rows_told = [f"fresh {web[0]}"] + text.split("\n")[1:]
+    asked = ["shown", "mean", "led 9", "till 0 0", "back", "back", "back", "arrows", "groups", "core"]
+    return [
+        (texts.web_shown, web), (texts.web_read, text), (texts.web_read, text + "\n"), (texts.web_read, [text]),
+        (desk_answers, rows_told + asked),
+    ]
+
+
+def desk_answers(rows_told):
+    """What a new desk answers to rows, one by one."""
+    desk = Desk()
+    return [answer((desk.say, row)) for row in rows_told]
+
+
 def answer(question):
     told = []
     error = raised(lambda: told.append(question[0](*question[1:])))
@@ -83,7 +123,7 @@ def spoil(thing):
 
 class Answers(unittest.TestCase):
     def test_the_same_question_has_the_same_answer(self):
-        asks = [question for web in made_webs(111, 25, most=8) for question in questions(web)]
+        asks = [question for web in made_webs(111, 25, most=8) + leading_webs(118, 10) for question in questions(web)]
         kept_asks = copy.deepcopy([question[1:] for question in asks])
         first = []
         for question in asks:
@@ -157,6 +197,41 @@ class Answers(unittest.TestCase):
                 self.assertEqual(len(rows.row_led(web, tuple(listed))), web[0])
             for bounding in ways.bounding_rows(web, 0, 200)[::50]:
                 self.assertEqual(rows.row_far(web, bounding, 1), rows.row_led(web, bounding))
+
+    def test_changed_webs_may_be_handed_in_again(self):
+        for web in made_webs(116, 40, most=8, worth=10 ** 30, arrows=12):
+            self.assertEqual(texts.web_read(texts.web_shown(web)), web)
+            for one, other, worth in web[1]:
+                less = changes.without_arrow(web, one, other)
+                self.assertIs(webs.web_good(less), True)
+                self.assertEqual(changes.with_arrow(less, one, other, worth), web)
+                for told in (changes.may_fall(web, one, other), changes.rise_till(web, one, other)):
+                    if told is not None:
+                        self.assertIn(means.no_less(web, told), (True, False))
+                mean = changes.mean_without(web, one, other)
+                if mean is not None:
+                    self.assertIs(means.no_less(less, mean), True)
+                    self.assertIs(shows.shows_good(less, mean, shows.shows_for(less, mean)), True)
+
+    def test_choices_may_be_handed_in_again(self):
+        for web in leading_webs(117, 60, worth=10 ** 30):
+            best, choice, values = choices.best_means(web), choices.best_choice(web), choices.values_of(web)
+            self.assertEqual(choices.choice_means(web, choice), best)
+            self.assertIs(choices.values_good(web, values), True)
+            self.assertIs(choices.values_good(web, (tuple(best), values[1])), True)
+            for ring, mean in zip(choices.choice_rings(web, choice), best):
+                self.assertEqual(webs.ring_mean(web, ring), mean)
+            # The numbers of values, whatever their means, are numbers that show some bound.
+            reached = shows.bound_of(web, values[1])
+            self.assertIs(shows.shows_good(web, reached, values[1]), True)
+            self.assertIs(means.no_less(web, reached), True)
+
+    def test_nothing_of_a_desk_is_changed_by_what_was_told(self):
+        desk = Desk()
+        for row in ("fresh 2", "arrow 0 1 3", "arrow 1 0 4"):
+            desk.say(row)
+        first = [desk.say(row) for row in ("shown", "mean", "led 7", "core")]
+        self.assertEqual([desk.say(row) for row in ("shown", "mean", "led 7", "core")], first)
 
 
 if __name__ == "__main__":

@@ -54,6 +54,7 @@ class Language(unittest.TestCase):
             names = [node for node in ast.walk(tree) if isinstance(node, ast.Name)]
             stored = {node.id for node in names if isinstance(node.ctx, ast.Store)}
             stored |= {node.arg for node in ast.walk(tree) if isinstance(node, ast.arg)}
+            stored |= {node.name for node in ast.walk(tree) if isinstance(node, ast.MatchAs) and node.name}
             self.assertEqual({name for name in stored if name in BUILTINS or name.startswith("_")}, set(), path.name)
             self.assertEqual(stored & own, set(), path.name)
             for node in ast.walk(tree):
@@ -64,6 +65,33 @@ class Language(unittest.TestCase):
                     self.assertTrue(node.level == 0 and node.module.startswith("meanrings."), (path.name, node.lineno))
                 if isinstance(node, ast.Constant):
                     self.assertNotIsInstance(node.value, float, (path.name, node.lineno))
+
+    def test_imports_name_the_file_that_defines_the_name(self):
+        trees = {path.stem: ast.parse(path.read_text()) for path in files()}
+        imported = {}
+        for stem, tree in trees.items():
+            imports = [node for node in tree.body if isinstance(node, ast.ImportFrom)]
+            imported[stem] = {node.module.removeprefix("meanrings.") for node in imports}
+            for node in imports:
+                defined = {part.name for part in trees[node.module.removeprefix("meanrings.")].body
+                           if isinstance(part, (ast.FunctionDef, ast.ClassDef))}
+                defined |= {part.targets[0].id for part in trees[node.module.removeprefix("meanrings.")].body
+                            if isinstance(part, ast.Assign)}
+                self.assertLessEqual({alias.name for alias in node.names}, defined, stem)
+        # Files are taken off that import only from those already off: so none import from each other.
+        while imported:
+            free = [stem for stem in imported if not imported[stem] & set(imported)]
+            self.assertTrue(free, imported)
+            for stem in free:
+                del imported[stem]
+
+    def test_imports_are_used(self):
+        for path in files():
+            tree = ast.parse(path.read_text())
+            names = {node.id for node in ast.walk(tree) if isinstance(node, ast.Name)}
+            for node in ast.walk(tree):
+                if isinstance(node, ast.ImportFrom):
+                    self.assertLessEqual({alias.name for alias in node.names}, names, path.name)
 
 
 if __name__ == "__main__":
